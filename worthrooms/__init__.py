@@ -1,0 +1,1 @@
+"""worthrooms: homes for coins. Homes on a net have worths; neighbours exchange their homes."""
