@@ -1,5 +1,7 @@
 """Towns, standings and odd things that several tests use."""
 
+import itertools
+import math
 import random
 
 # A road of homes from cheap to dear and back, a home beside it, and two homes on their own.
@@ -51,3 +53,133 @@ def random_cases(many, seed):
 def with_thing(row, k, thing):
     """The tuple with another thing at its k-th place."""
     return row[:k] + (thing,) + row[k + 1:]
+
+
+# A cheap corner of poor hands between two dear homes, and a dear home of its own behind a cheap one with an empty home.
+CORNER = (
+    (("west", 7), ("c1", 0), ("c2", 0), ("east", 7), ("yard", 2), ("hall", 9)),
+    (("west", "c1"), ("c1", "c2"), ("east", "c2"), ("yard", "east"), ("hall", "yard")),
+)
+CORNERED = (("rich", 50), ("pip", 1), ("poe", 0), ("ed", 0), (), ("hal", 0))
+
+NO_TOWNS = [(None, ("town",)), (((), ()), ("town",)), (((("A", 0),), ()), ("home", 0))]
+NO_TOWNS += [((TOWN[0], (("low", "low"),)), ("road", 0))]
+NO_STANDINGS = [
+    (None, ("standing",)), (STANDING[:5], ("standing",)), (list(STANDING), ("standing",)),
+    (with_thing(STANDING, 3, ("eve", 0)), ("hand", 3)), (with_thing(STANDING, 0, ("eve", -1)), ("hand", 0)),
+]
+
+
+def unlike_roads(dice, homes, many):
+    """So many roads of the homes at most, no two alike."""
+    ends = list(itertools.combinations([name for name, _ in homes], 2))
+    dice.shuffle(ends)
+    return tuple(dice.choice([pair, pair[::-1]]) for pair in ends[:many])
+
+
+def poor_cases(many, seed):
+    """Towns of one to six homes whose hands have few coins, with a standing each, and the dice behind them."""
+    dice = random.Random(seed)
+    for _ in range(many):
+        homes = tuple((f"h{k}", dice.choice([0, 1, 2, 3, 4])) for k in range(dice.randint(1, 6)))
+        town = (homes, unlike_roads(dice, homes, dice.randint(0, len(homes) + 1)))
+        hands = ["ann", "bob", "cid", "dan", "eve", "fay"]
+        dice.shuffle(hands)
+        gap = dice.choice([0, 0.1, 0.3, 0.7])
+        coins = [dice.choice([0, 0, 0, 1, 1, 2, 3]) for _ in homes]
+        yield dice, town, tuple(() if dice.random() < gap else there for there in zip(hands, coins))
+
+
+def ruler(k):
+    """The k-th of the worths 1 2 1 3 1 2 1 4 and so on."""
+    return ((k + 1) & -(k + 1)).bit_length()
+
+
+def long_cases(many, seed, bare=False):
+    """Lines of 20 to 40 homes with more roads, few coins and some empty homes, and the dice behind them.
+
+    Bare: all in a line, no home empty, and just so many coins that the whole line is one room.
+    """
+    dice = random.Random(seed)
+    for turn in range(many):
+        size = dice.randint(20, 40)
+        worth = [ruler, lambda k: k // 2, lambda k: dice.randint(0, 19)][turn % 3]
+        homes = tuple((f"h{k}", worth(k)) for k in range(size))
+        line = tuple((f"h{k}", f"h{k + 1}") for k in range(size - 1))
+        more = () if bare else unlike_roads(dice, homes, dice.randint(0, 20))
+        roads = line + tuple(road for road in more if road not in line and road[::-1] not in line)
+        coins = opening_coins([worth for _, worth in homes], dice)
+        if not bare:
+            coins = [dice.choice([least, least, least, 0, 1, 30]) for least in coins]
+        standing = tuple((f"p{k}", coins[k]) if bare or dice.random() < 0.95 else () for k in range(size))
+        yield dice, (homes, roads), standing
+
+
+def greatest_case():
+    """A town of 40 homes, 80 roads and 20 unlike worths, all one room, with a few empty homes."""
+    worths = [10 ** 9 - 20 + k % 20 for k in range(40)]
+    homes = tuple((f"h{k}", worth) for k, worth in enumerate(worths))
+    roads = tuple((f"h{k}", f"h{(k + step) % 40}") for step in (1, 7) for k in range(40))
+    standing = tuple((f"p{k}", k % 21) if k % 9 else () for k in range(40))
+    return (homes, roads), standing
+
+
+def opening_coins(worths, dice):
+    """Coins for the hands of a line of homes with these worths, such that no room is shut, nearly as few as can be."""
+    wealth = list(worths)
+    for now, following in zip(sorted(set(worths)), sorted(set(worths))[1:]):
+        part = []
+        for place, worth in enumerate([*worths, following]):
+            if worth <= now:
+                part.append(place)
+            elif part:
+                if all(wealth[there] < following for there in part):
+                    wealth[dice.choice(part)] = following
+                part = []
+    return [means - worth for means, worth in zip(wealth, worths)]
+
+
+def wealth_of(town, standing):
+    """The wealth of each hand; "" of an empty home has an endless one."""
+    found = {there[0]: there[1] + worth for (_, worth), there in zip(town[0], standing) if there}
+    return {**found, "": math.inf}
+
+
+def lot(town, standing):
+    """All STANDS that can come about, by going through all exchanges one by one."""
+    homes, roads = town
+    worths = dict(homes)
+    place = {name: k for k, (name, _) in enumerate(homes)}
+    wealth = wealth_of(town, standing)
+    seen = {tuple(there[0] if there else "" for there in standing)}
+    todo = list(seen)
+    while todo:
+        stands = todo.pop()
+        for one, other in roads:
+            ends = stands[place[one]], stands[place[other]]
+            if min(wealth[hand] for hand in ends) >= max(worths[one], worths[other]):
+                behind = with_thing(with_thing(stands, place[one], ends[1]), place[other], ends[0])
+                if behind not in seen:
+                    seen.add(behind)
+                    todo.append(behind)
+    return seen
+
+
+def shuffled_in_rooms(dice, town, room):
+    """STANDS with each hand somewhere in its room, which the dict tells by names."""
+    names = [name for name, _ in town[0]]
+    stands = [""] * len(names)
+    for hand in sorted(room, key=lambda hand: len(room[hand])):
+        free = [names.index(name) for name in room[hand] if stands[names.index(name)] == ""]
+        stands[dice.choice(free)] = hand
+    return tuple(stands)
+
+
+def lists_in(thing):
+    """All lists in the thing, itself among them, each as often as it stands there."""
+    if isinstance(thing, dict):
+        return lists_in(list(thing.values()))[1:]
+    if not isinstance(thing, (list, tuple)):
+        return []
+    inner = [found for part in thing for found in lists_in(part)]
+    return [thing, *inner] if isinstance(thing, list) else inner

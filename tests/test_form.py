@@ -14,6 +14,12 @@ INTERFACE = {
               "stands_of": ["town", "standing"], "placed": ["town", "standing", "stands"]},
     "exchanges": {"exchanged": ["town", "standing", "pair"], "gone": ["town", "standing", "row"],
                   "may": ["town", "standing"]},
+    "rooms": {"rooms": ["town", "standing"], "room_of": ["town", "standing", "hand"],
+              "in_lot": ["town", "standing", "stands"]},
+    "walls": {"fence": ["town", "standing", "hand"], "fence_wrong": ["town", "standing", "hand", "thing"]},
+    "ways": {"come": ["town", "standing", "stands"], "bring": ["town", "standing", "hand", "home"],
+             "come_wrong": ["town", "standing", "stands", "thing"],
+             "bring_wrong": ["town", "standing", "hand", "home", "thing"]},
 }
 BUILTINS = """len range enumerate zip min max sum abs sorted reversed int str bool bytes list tuple dict set isinstance
 ord repr any all divmod ValueError KeyError""".split()
@@ -82,6 +88,27 @@ class Form(unittest.TestCase):
                         home = getattr(getattr(module, told.name), "__module__", node.module)
                         self.assertEqual(home, node.module)
 
+    def test_no_name_has_two_meanings(self):
+        for file in files():
+            nodes = list(ast.walk(tree(file)))
+            told = [name.name for node in nodes if isinstance(node, ast.ImportFrom) for name in node.names]
+            told += [node.name for node in tree(file).body if isinstance(node, (ast.ClassDef, ast.FunctionDef))]
+            self.assertEqual(len(set(told)), len(told), file)
+            given = [node.id for node in nodes if isinstance(node, ast.Name) and isinstance(node.ctx, ast.Store)]
+            given += [node.arg for node in nodes if isinstance(node, ast.arg)]
+            self.assertEqual(set(given) & set(told), set(), file)
+
+    def test_no_two_files_import_from_each_other(self):
+        above = {}
+        for file in files():
+            parts = [node.module.split(".") for node in ast.walk(tree(file)) if isinstance(node, ast.ImportFrom)]
+            above[file.stem] = {part[1] for part in parts if part[0] == "worthrooms"}
+        while above:
+            free = [word for word in above if not above[word] & set(above)]
+            self.assertNotEqual(free, [], above)
+            for word in free:
+                del above[word]
+
     def test_no_statement_or_value_that_is_barred(self):
         for file in files():
             for node in ast.walk(tree(file)):
@@ -95,7 +122,8 @@ class Form(unittest.TestCase):
     def test_builtins(self):
         for file in files():
             for node in ast.walk(tree(file)):
-                if isinstance(node, ast.Name) and hasattr(builtins, node.id):
+                # A run of the README's examples leaves a builtin called _ behind.
+                if isinstance(node, ast.Name) and node.id != "_" and hasattr(builtins, node.id):
                     self.assertIn(node.id, BUILTINS, file)
                     self.assertIsInstance(node.ctx, ast.Load, file)
 

@@ -40,6 +40,20 @@ def exchange(homes, here, one, other):
     here[one], here[other] = moved(here[other], -rise), moved(here[one], rise)
 
 
+def stuck(town, here, row):
+    """Do the exchanges of the row in the list handed in, up to the first that can't be done; tell its place."""
+    homes = town[0]
+    ends = road_ends(town)
+    for at, pair in enumerate(row):
+        if not is_text_pair(pair) or pair not in ends:
+            return at
+        one, other = ends[pair]
+        if shortage(homes, here, one, other) is not None:
+            return at
+        exchange(homes, here, one, other)
+    return None
+
+
 def exchanged(town, standing, pair):
     """Tell the standing behind the exchange of the pair."""
     return gone(town, standing, [pair])
@@ -50,19 +64,17 @@ def gone(town, standing, row):
     check_standing(town, standing)
     if not isinstance(row, list):
         raise NoRow()
-    homes = town[0]
-    ends = road_ends(town)
     here = list(standing)
-    for at, pair in enumerate(row):
-        if not is_text_pair(pair) or pair not in ends:
-            raise NoRoad(pair, at)
-        one, other = ends[pair]
-        short = shortage(homes, here, one, other)
-        if short is not None:
-            hand, lacks = short
-            raise Short(hand, lacks, at)
-        exchange(homes, here, one, other)
-    return tuple(here)
+    at = stuck(town, here, row)
+    if at is None:
+        return tuple(here)
+    pair = row[at]
+    ends = road_ends(town)
+    if not is_text_pair(pair) or pair not in ends:
+        raise NoRoad(pair, at)
+    one, other = ends[pair]
+    hand, lacks = shortage(town[0], here, one, other)
+    raise Short(hand, lacks, at)
 
 
 def may(town, standing):

@@ -1,6 +1,6 @@
 """Towns, the standings of hands in them, and the wealths that no exchange changes."""
 
-from worthrooms.errors import NoStanding, NoStands, NoTown, Short
+from worthrooms.errors import NoHand, NoHome, NoStanding, NoStands, NoTown, Short
 
 LETTERS = "abcdefghijklmnopqrstuvwxyz"
 SIGNS = "abcdefghijklmnopqrstuvwxyz0123456789"
@@ -98,9 +98,24 @@ def check_standing(town, standing):
         raise NoStanding(wrong)
 
 
-def wealths(town, standing):
-    """Tell the hands, in order, with their wealths."""
-    check_standing(town, standing)
+def place_of_home(town, home):
+    """Tell the place of the home of this name, refuse what is the name of none."""
+    for place, (name, _) in enumerate(town[0]):
+        if name == home:
+            return place
+    raise NoHome(home)
+
+
+def place_of_hand(standing, hand):
+    """Tell the place where the hand stands, refuse what is none of the standing."""
+    for place, there in enumerate(standing):
+        if there != () and there[0] == hand:
+            return place
+    raise NoHand(hand)
+
+
+def wealth_by_hand(town, standing):
+    """Map each hand, in order, to its wealth."""
     found = {}
     for (_, worth), there in zip(town[0], standing):
         if there != ():
@@ -109,10 +124,21 @@ def wealths(town, standing):
     return {hand: found[hand] for hand in sorted(found)}
 
 
+def hands_at(standing):
+    """List home by home the hand that stands there, "" where it is empty."""
+    return [there[0] if there else "" for there in standing]
+
+
+def wealths(town, standing):
+    """Tell the hands, in order, with their wealths."""
+    check_standing(town, standing)
+    return wealth_by_hand(town, standing)
+
+
 def stands_of(town, standing):
     """Tell home by home the hand that stands there, "" where it is empty."""
     check_standing(town, standing)
-    return tuple([there[0] if there else "" for there in standing])
+    return tuple(hands_at(standing))
 
 
 def are_stands(town, hands, thing):
@@ -124,11 +150,17 @@ def are_stands(town, hands, thing):
     return sorted([hand for hand in thing if hand != ""]) == hands
 
 
+def check_stands(town, standing, stands):
+    """Refuse what is no town, then what is no standing of it, then what is no STANDS of just its hands."""
+    check_standing(town, standing)
+    if not are_stands(town, list(wealth_by_hand(town, standing)), stands):
+        raise NoStands()
+
+
 def placed(town, standing, stands):
     """Tell the standing of the same wealths in which the hands stand as STANDS tell."""
-    wealth = wealths(town, standing)
-    if not are_stands(town, list(wealth), stands):
-        raise NoStands()
+    check_stands(town, standing, stands)
+    wealth = wealth_by_hand(town, standing)
     coins = {}
     for (_, worth), hand in zip(town[0], stands):
         if hand != "":
