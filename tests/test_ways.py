@@ -60,6 +60,8 @@ class Ways(unittest.TestCase):
         if can:
             names = [name for name, _ in town[0]]
             self.assertEqual(self.check_row(town, standing, told)[names.index(home)], hand)
+            # No road of the tree more often than there are unlike worths, as the class Way says.
+            self.assertLessEqual(len(told[1]), (len(names) - 1) * len({worth for _, worth in town[0]}))
         else:
             self.check_barred(town, standing, told, {hand: home})
         self.assertIsNone(bring_wrong(town, standing, hand, home, told))
