@@ -1,8 +1,11 @@
 """Towns, standings and odd things that several tests use."""
 
+import copy
 import itertools
 import math
 import random
+
+from worthrooms.errors import NoHand, NoHome, NoStanding, NoTown
 
 # A road of homes from cheap to dear and back, a home beside it, and two homes on their own.
 TOWN = (
@@ -183,3 +186,80 @@ def lists_in(thing):
         return []
     inner = [found for part in thing for found in lists_in(part)]
     return [thing, *inner] if isinstance(thing, list) else inner
+
+
+def hands_of(stands):
+    """The hands that stand there, in order."""
+    return sorted(hand for hand in stands if hand)
+
+
+def places_of(stands):
+    """The places of the hands' homes, hand by hand in their order: by these STANDS are numbered."""
+    return [stands.index(hand) for hand in hands_of(stands)]
+
+
+def in_order(all_stands):
+    """STANDS of the same hands, in the order of 30."""
+    return sorted(all_stands, key=places_of)
+
+
+def with_coins(standing, coins):
+    """The standing with other coins for the hands of the dict."""
+    return tuple((there[0], coins.get(there[0], there[1])) if there else () for there in standing)
+
+
+def with_wealths(town, stands, wealth):
+    """The standing of these wealths in which they stand so; coins may be below 0 there."""
+    return tuple((hand, wealth[hand] - worth) if hand else () for (_, worth), hand in zip(town[0], stands))
+
+
+def check_own(test, ask):
+    """What is asked for is told anew each time, and no list stands at two places of it."""
+    told = ask()
+    ahead = copy.deepcopy(told)
+    lists = lists_in(told)
+    test.assertEqual(len({id(found) for found in lists}), len(lists))
+    for found in lists + [told] * isinstance(told, dict):
+        found.clear()
+    test.assertEqual(ask(), ahead)
+
+
+def check_refused(test, calls):
+    """Each of the calls, of a town and a standing, refuses what is none ahead of all else."""
+    for call, (town, wrong), standing in itertools.product(calls, NO_TOWNS, (STANDING, None)):
+        with test.assertRaises(NoTown) as caught:
+            call(town, standing)
+        test.assertEqual(caught.exception.wrong, wrong)
+    for call, (standing, wrong) in itertools.product(calls, NO_STANDINGS):
+        with test.assertRaises(NoStanding) as caught:
+            call(TOWN, standing)
+        test.assertEqual(caught.exception.wrong, wrong)
+
+
+NO_HANDS = [thing for thing in ODD if thing not in ("eve", "bob", "ann")] + ["low", "Eve", "eve ", ("eve", 5), ["eve"]]
+NO_HOMES = [thing for thing in ODD if thing not in ("low", "mid")] + ["eve", "Mid", "mid ", ("mid", 5), ["mid"]]
+
+
+def check_no_hand(test, call, *rest):
+    """The call, of a hand of the sample and the rest, refuses what is none, and tells it."""
+    for hand in NO_HANDS:
+        with test.assertRaises(NoHand) as caught:
+            call(TOWN, STANDING, hand, *rest)
+        test.assertIs(caught.exception.name, hand)
+
+
+def check_no_home(test, call, *ahead):
+    """The call, of what stands ahead and a home of the sample, refuses what is none, and tells it."""
+    for home in NO_HOMES:
+        with test.assertRaises(NoHome) as caught:
+            call(TOWN, STANDING, *ahead, home)
+        test.assertIs(caught.exception.name, home)
+
+
+def can_key(thing):
+    """Whether the thing may be a key of a dict."""
+    try:
+        hash(thing)
+    except TypeError:
+        return False
+    return True

@@ -20,11 +20,21 @@ INTERFACE = {
     "ways": {"come": ["town", "standing", "stands"], "bring": ["town", "standing", "hand", "home"],
              "come_wrong": ["town", "standing", "stands", "thing"],
              "bring_wrong": ["town", "standing", "hand", "home", "thing"]},
+    "counts": {"count": ["town", "standing", "*given"], "nth": ["town", "standing", "n", "*given"],
+               "first": ["town", "standing"], "number": ["town", "standing", "stands"],
+               "share": ["town", "standing", "hand", "home"], "mean": ["town", "standing", "hand"],
+               "loose": ["town", "standing", "hand"]},
+    "bands": {"band": ["town", "standing", "hand"], "stripped": ["town", "standing"], "alike": ["town", "one", "other"],
+              "alike_wrong": ["town", "one", "other", "thing"]},
+    "needs": {"roads_wanted": ["town", "standing"], "roads_wrong": ["town", "standing", "thing"],
+              "needed": ["town", "standing", "hand", "home"], "beside": ["town", "standing", "hand", "home", "other"]},
 }
+DEFAULTS = {"given": None, "most": 720}
 BUILTINS = """len range enumerate zip min max sum abs sorted reversed int str bool bytes list tuple dict set isinstance
 ord repr any all divmod ValueError KeyError""".split()
 NODES_BARRED = (ast.Global, ast.Import, ast.AsyncFunctionDef, ast.Await, ast.Div)
-WORDS_BARRED = r"\b(type|typing|enum|Enum|ABC|namedtuple|dataclass|eval|exec|open|input|law)\b|_wall\b|__class__"
+WORDS_BARRED = r"\b(type|typing|enum|Enum|ABC|namedtuple)\b|dataclass|overload|_wall\b|_WallAttr|__class__"
+NAMES_BARRED = "register mro elements open input law compile dir eval exec exit gc help id os quit super vars".split()
 
 
 def files():
@@ -42,6 +52,22 @@ def without_docstrings(tree_of_file):
     return ast.unparse(tree_of_file)
 
 
+INNER = (ast.ListComp, ast.SetComp, ast.DictComp, ast.GeneratorExp, ast.Lambda)
+
+
+def assigned(node):
+    """The names that the function, lambda or comprehension assigns, not those of comprehensions in it."""
+    found, todo = set(), [node]
+    while todo:
+        part = todo.pop()
+        if isinstance(part, ast.Name) and isinstance(part.ctx, ast.Store):
+            found.add(part.id)
+        if isinstance(part, ast.arg):
+            found.add(part.arg)
+        todo += [inner for inner in ast.iter_child_nodes(part) if not isinstance(inner, INNER)]
+    return found
+
+
 class Interface(unittest.TestCase):
     def test_functions_with_their_arguments_in_their_files(self):
         for file, functions in INTERFACE.items():
@@ -50,8 +76,11 @@ class Interface(unittest.TestCase):
                 function = getattr(module, word)
                 self.assertEqual(function.__module__, "worthrooms." + file)
                 told = inspect.signature(function).parameters.values()
-                self.assertEqual([argument.name for argument in told], arguments)
-                self.assertEqual({argument.kind for argument in told}, {inspect.Parameter.POSITIONAL_OR_KEYWORD})
+                stars = {inspect.Parameter.POSITIONAL_OR_KEYWORD: "", inspect.Parameter.KEYWORD_ONLY: "*"}
+                self.assertEqual([stars[argument.kind] + argument.name for argument in told], arguments)
+                for argument in told:
+                    default = DEFAULTS.get(argument.name, inspect.Parameter.empty)
+                    self.assertEqual(argument.default, default, (word, argument))
 
 
 class Form(unittest.TestCase):
@@ -118,6 +147,31 @@ class Form(unittest.TestCase):
                 if isinstance(node, (ast.FunctionDef, ast.ClassDef)):
                     self.assertEqual(node.decorator_list, [], file)
             self.assertIsNone(re.search(WORDS_BARRED, without_docstrings(tree(file))), file)
+
+    def test_no_name_that_is_barred(self):
+        for file in files():
+            for node in ast.walk(tree(file)):
+                told = [getattr(node, word, None) for word in ("id", "attr", "arg", "name")]
+                for name in filter(None, told):
+                    self.assertNotIn(name, NAMES_BARRED, file)
+                    self.assertNotRegex(name, r"\A_(wall|pe_|dcw_|enum_|cm_|twin_re_|lay_|law_|stub_|sre)", file)
+
+    def test_an_inner_comprehension_has_names_of_its_own(self):
+        for file in files():
+            for function in ast.walk(tree(file)):
+                if isinstance(function, ast.FunctionDef):
+                    self.check_inner_names(function, assigned(function), 0)
+
+    def check_inner_names(self, node, further_out, depth):
+        """L7: within a comprehension or a lambda no comprehension assigns a name that is assigned further out."""
+        for part in ast.iter_child_nodes(node):
+            if isinstance(part, INNER):
+                own = assigned(part)
+                if depth > 0 and not isinstance(part, ast.Lambda):
+                    self.assertEqual(own & further_out, set(), ast.unparse(part))
+                self.check_inner_names(part, further_out | own, depth + 1)
+            else:
+                self.check_inner_names(part, further_out, depth)
 
     def test_builtins(self):
         for file in files():

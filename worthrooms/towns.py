@@ -157,16 +157,25 @@ def check_stands(town, standing, stands):
         raise NoStands()
 
 
+def shortfall(town, wealth, stands):
+    """Tell (hand, lacks) of the first hand, in order, that can't afford its home, None where each can."""
+    worths = {hand: worth for (_, worth), hand in zip(town[0], stands)}
+    for hand, means in wealth.items():
+        if worths[hand] > means:
+            return (hand, worths[hand] - means)
+    return None
+
+
+def placed_by(town, wealth, stands):
+    """Tell the standing of these wealths in which the hands stand so, refuse where one can't afford its home."""
+    short = shortfall(town, wealth, stands)
+    if short is not None:
+        hand, lacks = short
+        raise Short(hand, lacks)
+    return tuple([(hand, wealth[hand] - worth) if hand else () for (_, worth), hand in zip(town[0], stands)])
+
+
 def placed(town, standing, stands):
     """Tell the standing of the same wealths in which the hands stand as STANDS tell."""
     check_stands(town, standing, stands)
-    wealth = wealth_by_hand(town, standing)
-    coins = {}
-    for (_, worth), hand in zip(town[0], stands):
-        if hand != "":
-            coins[hand] = wealth[hand] - worth
-    # The dict above goes home by home, but the first in the order of hands is refused.
-    for hand in wealth:
-        if coins[hand] < 0:
-            raise Short(hand, -coins[hand])
-    return tuple([(hand, coins[hand]) if hand else () for hand in stands])
+    return placed_by(town, wealth_by_hand(town, standing), stands)

@@ -59,16 +59,21 @@ def walls_wrong(town, wealth, walls, barred):
     return None
 
 
-def fence(town, standing, hand):
-    """Tell all shut rooms as walls and the room of the hand as its fence."""
-    check_standing(town, standing)
-    place_of_hand(standing, hand)
+def walls_of(town, standing):
+    """List all shut rooms as walls, level by level."""
     walls = []
     for level in levels(town, standing).values():
         for places, shut in level:
             if shut:
                 walls.append(names_of(town, places))
-    return (walls, names_of(town, rooms_by_hand(town, standing)[hand]))
+    return walls
+
+
+def fence(town, standing, hand):
+    """Tell all shut rooms as walls and the room of the hand as its fence."""
+    check_standing(town, standing)
+    place_of_hand(standing, hand)
+    return (walls_of(town, standing), names_of(town, rooms_by_hand(town, standing)[hand]))
 
 
 def fence_wrong(town, standing, hand, thing):
