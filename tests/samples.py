@@ -4,6 +4,7 @@ import copy
 import itertools
 import math
 import random
+import re
 
 from worthrooms.errors import NoHand, NoHome, NoStanding, NoTown
 
@@ -263,3 +264,134 @@ def can_key(thing):
     except TypeError:
         return False
     return True
+
+
+def naive_behind(town, wealth, event):
+    """The town and the wealths behind an event, by the words of 50 and 51."""
+    homes, roads = list(town[0]), list(town[1])
+    wealth = dict(wealth)
+    match event:
+        case ("worths", worths):
+            homes = [(homes[k][0], worths[k]) for k in range(len(homes))]
+        case ("gift", one, other, coins):
+            wealth[one] -= coins
+            wealth[other] += coins
+        case ("fee", hand, coins):
+            wealth[hand] -= coins
+        case ("grant", hand, coins):
+            wealth[hand] += coins
+        case ("road", near, far):
+            roads.append((near, far))
+        case ("bar", near, far):
+            roads = [road for road in roads if set(road) != {near, far}]
+        case ("goes", hand):
+            wealth.pop(hand)
+        case ("comes", hand, home, coins):
+            wealth[hand] = dict(homes)[home] + coins
+    return (tuple(homes), tuple(roads)), wealth
+
+
+def naive_strike(town, stands, wealth, event):
+    """The STANDS behind an event that strikes at these, None where somebody would owe or come into a taken home."""
+    behind, later = naive_behind(town, wealth, event)
+    there = list(stands)
+    if event[0] == "goes":
+        there[there.index(event[1])] = ""
+    if event[0] == "comes":
+        place = [name for name, _ in town[0]].index(event[2])
+        if there[place]:
+            return None
+        there[place] = event[1]
+    if any(hand and later[hand] < worth for (_, worth), hand in zip(behind[0], there)):
+        return None
+    return tuple(there)
+
+
+def some_event(dice, town, hands, words=("worths", "gift", "fee", "grant", "road", "bar", "goes", "comes")):
+    """An event of the town and these hands."""
+    names = [name for name, _ in town[0]]
+    hands = sorted(hands)
+    joined = {frozenset(road) for road in town[1]}
+    apart = [pair for pair in itertools.permutations(names, 2) if frozenset(pair) not in joined]
+    coins = dice.choice([1, 1, 2, 3, 5])
+    newcomers = [hand for hand in ("abe", "gus", "zoe") if hand not in hands]
+    can = {"worths": [("worths", tuple(dice.choice([worth, worth, 0, 1, 2, 4]) for _, worth in town[0]))]}
+    can["gift"] = [("gift", *pair, coins) for pair in itertools.permutations(hands, 2)]
+    can["fee"] = [("fee", hand, coins) for hand in hands]
+    can["grant"] = [("grant", hand, coins) for hand in hands]
+    can["goes"] = [("goes", hand) for hand in hands]
+    can["road"] = [("road", *pair) for pair in apart]
+    can["bar"] = [("bar", *road[::step]) for road in town[1] for step in (1, -1)]
+    can["comes"] = [("comes", dice.choice(newcomers), home, coins) for home in names if len(hands) < len(names)]
+    words = [word for word in words if can[word]]
+    return dice.choice(can[dice.choice(words or ["worths"])])
+
+
+def all_placings(town, wealth):
+    """All STANDS of these hands in which each affords its home."""
+    hands = sorted(wealth) + [""] * (len(town[0]) - len(wealth))
+    if len(hands) > len(town[0]):
+        return []
+    return [stands for stands in sorted(set(itertools.permutations(hands)))
+            if all(not hand or wealth[hand] >= worth for (_, worth), hand in zip(town[0], stands))]
+
+
+def named(thing):
+    return type(thing) is str and re.fullmatch("[a-z][a-z0-9]{0,7}", thing) is not None
+
+
+def changed_paper(dice, names, paper):
+    """The paper with a few changes, which may leave it right."""
+    walls, fenced = copy.deepcopy(paper)
+    for _ in range(dice.randint(1, 3)):
+        turn = dice.randrange(7)
+        if turn == 0:
+            dice.shuffle(walls)
+        elif turn == 1 and walls:
+            walls.pop(dice.randrange(len(walls)))
+        elif turn == 2:
+            walls.insert(dice.randint(0, len(walls)), dice.sample(names, dice.randint(1, len(names))))
+        elif turn == 3:
+            fenced = dice.sample(names, dice.randint(0, len(names)))
+        elif turn == 4:
+            dice.shuffle(fenced)
+        elif turn == 5 and len(fenced) > 1:
+            fenced.pop(dice.randrange(len(fenced)))
+        elif walls:
+            wall = dice.choice(walls)
+            name = dice.choice(names)
+            if name not in wall:
+                wall.insert(0, name)
+            elif len(wall) > 1:
+                wall.remove(name)
+    return (walls, fenced)
+
+
+def longest(town):
+    """The most exchanges that a told row may have."""
+    many, unlike = len(town[0]), len({worth for _, worth in town[0]})
+    return 2 * many * many * unlike * unlike + many * unlike
+
+
+class NoPaper:
+    """Things that are no paper of either form, as they are for come_wrong and bring_wrong of ann."""
+
+    ROWS = [thing for thing in ODD if not isinstance(thing, list)] + [(("low", "mid"),)]
+    PAIRS = [thing for thing in ODD if thing not in (("low", "mid"), ("mid", "low"))]
+    PAIRS += [["low", "mid"], ("low", "nobody"), ("Low", "mid"), ("eve", "bob"), ("low", ["mid"]), ([], {})]
+    PAIRS += [("low", "mid", "high"), (("low", "mid"),), ("lowmid",)]
+    THINGS = ODD + [
+        ["row", []], ("row",), ("row", [], []), ("Row", []), ("rows", []), ([], []), (None, []), ("barred", []),
+        ["barred", "ann", ([], ["low2"])], ("barred", "ann"), ("barred", "ann", ([], ["low2"]), None),
+        ("row", "ann", ([], ["low2"])), ("barred", ([], ["low2"])), ("Barred", "ann", ([], ["low2"])),
+        ({}, "ann", ([], ["low2"])), ("barred", "ann", [], ["low2"]),
+    ]
+    THINGS += [("row", row) for row in ROWS]
+    THINGS += [("row", row) for pair in PAIRS for row in ([pair], [("low", "mid"), pair], [("low", "high"), pair])]
+    HANDS = [thing for thing in ODD if thing not in ("eve", "bob", "ann")] + ["low", "Ann", ("ann", 11), ["ann"], ""]
+    THINGS += [("barred", hand, ([], ["low2"])) for hand in HANDS]
+    THINGS += [("barred", "ann", thing) for thing in ODD if thing != ([], [])]
+    THINGS += [("barred", "ann", paper) for paper in [
+        ([[]], ["low2"]), ([["low", "low"]], ["low2"]), ([], ["low2", "low2"]), ([["ann"]], ["low2"]), ([], ["nobody"]),
+        [[], ["low2"]], ([], ("low2",)), ((), ["low2"]), ([], ["low2"], []),
+    ]]

@@ -28,6 +28,17 @@ INTERFACE = {
               "alike_wrong": ["town", "one", "other", "thing"]},
     "needs": {"roads_wanted": ["town", "standing"], "roads_wrong": ["town", "standing", "thing"],
               "needed": ["town", "standing", "hand", "home"], "beside": ["town", "standing", "hand", "home", "other"]},
+    "wishes": {"granted": ["town", "standing", "wishes"], "granted_wrong": ["town", "standing", "wishes", "thing"],
+               "left": ["town", "standing", "wishes"], "by_coins": ["town", "standing", "coins"]},
+    "events": {"event_wrong": ["town", "standing", "thing"], "struck": ["town", "standing", "event"],
+               "through": ["town", "standing", "event", "stands"],
+               "through_wrong": ["town", "standing", "event", "stands", "thing"]},
+    "gifts": {"least_grant": ["town", "standing", "hand", "other", "home"],
+              "both_papers": ["town", "standing", "hand", "other", "home"]},
+    "calendars": {"calendar_wrong": ["town", "standing", "thing"],
+                  "lots_behind": ["town", "standing", "calendar", "*most"],
+                  "led": ["town", "standing", "calendar", "stands", "*most"],
+                  "led_wrong": ["town", "standing", "calendar", "stands", "thing", "*most"]},
 }
 DEFAULTS = {"given": None, "most": 720}
 BUILTINS = """len range enumerate zip min max sum abs sorted reversed int str bool bytes list tuple dict set isinstance

@@ -2,17 +2,12 @@
 
 import copy
 import itertools
-import re
 import unittest
 
-from samples import (NAMES, NO_NAMES, NO_TUPLES, NO_WORTHS, ODD, STANDING, STANDS, TOWN, WEALTHS, random_cases,
+from samples import (NAMES, NO_NAMES, NO_TUPLES, NO_WORTHS, ODD, STANDING, STANDS, TOWN, WEALTHS, named, random_cases,
                      with_thing)
 from worthrooms.errors import NoStanding, NoStands, NoTown, Short
 from worthrooms.towns import placed, standing_wrong, stands_of, town_wrong, wealths
-
-
-def named(thing):
-    return type(thing) is str and re.fullmatch("[a-z][a-z0-9]{0,7}", thing) is not None
 
 
 def entry(thing):

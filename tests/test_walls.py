@@ -4,8 +4,8 @@ import copy
 import itertools
 import unittest
 
-from samples import (CORNER, CORNERED, NO_STANDINGS, NO_TOWNS, ODD, STANDING, TOWN, greatest_case, lists_in, long_cases,
-                     lot, poor_cases, random_cases, wealth_of, with_thing)
+from samples import (CORNER, CORNERED, NO_STANDINGS, NO_TOWNS, ODD, STANDING, TOWN, changed_paper, greatest_case,
+                     lists_in, long_cases, lot, poor_cases, random_cases, wealth_of, with_thing)
 from worthrooms.errors import NoHand, NoStanding, NoTown
 from worthrooms.rooms import room_of, rooms
 from worthrooms.towns import wealths
@@ -54,33 +54,6 @@ def judged(town, standing, hand, thing):
         return ("home",)
     found = out(fenced, walls, wealth[hand])
     return ("fence", *found) if found else None
-
-
-def changed_paper(dice, names, paper):
-    """The paper with a few changes, which may leave it right."""
-    walls, fenced = copy.deepcopy(paper)
-    for _ in range(dice.randint(1, 3)):
-        turn = dice.randrange(7)
-        if turn == 0:
-            dice.shuffle(walls)
-        elif turn == 1 and walls:
-            walls.pop(dice.randrange(len(walls)))
-        elif turn == 2:
-            walls.insert(dice.randint(0, len(walls)), dice.sample(names, dice.randint(1, len(names))))
-        elif turn == 3:
-            fenced = dice.sample(names, dice.randint(0, len(names)))
-        elif turn == 4:
-            dice.shuffle(fenced)
-        elif turn == 5 and len(fenced) > 1:
-            fenced.pop(dice.randrange(len(fenced)))
-        elif walls:
-            wall = dice.choice(walls)
-            name = dice.choice(names)
-            if name not in wall:
-                wall.insert(0, name)
-            elif len(wall) > 1:
-                wall.remove(name)
-    return (walls, fenced)
 
 
 class Fence(unittest.TestCase):

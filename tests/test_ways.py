@@ -5,8 +5,8 @@ import itertools
 import random
 import unittest
 
-from samples import (CORNER, CORNERED, NO_STANDINGS, NO_TOWNS, ODD, STANDING, STANDS, TOWN, greatest_case, lists_in,
-                     long_cases, lot, poor_cases, random_cases, shuffled_in_rooms, with_thing)
+from samples import (CORNER, CORNERED, NO_STANDINGS, NO_TOWNS, ODD, STANDING, STANDS, TOWN, NoPaper, greatest_case,
+                     lists_in, long_cases, longest, lot, poor_cases, random_cases, shuffled_in_rooms, with_thing)
 from worthrooms.errors import NoHand, NoHome, NoStanding, NoStands, NoTown
 from worthrooms.exchanges import gone
 from worthrooms.rooms import room_of
@@ -17,12 +17,6 @@ from worthrooms.ways import bring, bring_wrong, come, come_wrong
 BEHIND = ("bob", "", "eve", "ann", "", "")
 TURNED = ("bob", "eve", "", "ann", "", "")
 NEVER = ("eve", "bob", "ann", "", "", "")
-
-
-def longest(town):
-    """The most exchanges that a told row may have."""
-    many, unlike = len(town[0]), len({worth for _, worth in town[0]})
-    return 2 * many * many * unlike * unlike + many * unlike
 
 
 def all_hands_in_rooms(town, standing):
@@ -223,30 +217,6 @@ class Bring(Ways):
 
     def test_by_name(self):
         self.assertEqual(bring(home="mid", hand="bob", standing=STANDING, town=TOWN), ("row", []))
-
-
-class NoPaper:
-    """Things that are no paper of either form, as they are for come_wrong and bring_wrong of ann."""
-
-    ROWS = [thing for thing in ODD if not isinstance(thing, list)] + [(("low", "mid"),)]
-    PAIRS = [thing for thing in ODD if thing not in (("low", "mid"), ("mid", "low"))]
-    PAIRS += [["low", "mid"], ("low", "nobody"), ("Low", "mid"), ("eve", "bob"), ("low", ["mid"]), ([], {})]
-    PAIRS += [("low", "mid", "high"), (("low", "mid"),), ("lowmid",)]
-    THINGS = ODD + [
-        ["row", []], ("row",), ("row", [], []), ("Row", []), ("rows", []), ([], []), (None, []), ("barred", []),
-        ["barred", "ann", ([], ["low2"])], ("barred", "ann"), ("barred", "ann", ([], ["low2"]), None),
-        ("row", "ann", ([], ["low2"])), ("barred", ([], ["low2"])), ("Barred", "ann", ([], ["low2"])),
-        ({}, "ann", ([], ["low2"])), ("barred", "ann", [], ["low2"]),
-    ]
-    THINGS += [("row", row) for row in ROWS]
-    THINGS += [("row", row) for pair in PAIRS for row in ([pair], [("low", "mid"), pair], [("low", "high"), pair])]
-    HANDS = [thing for thing in ODD if thing not in ("eve", "bob", "ann")] + ["low", "Ann", ("ann", 11), ["ann"], ""]
-    THINGS += [("barred", hand, ([], ["low2"])) for hand in HANDS]
-    THINGS += [("barred", "ann", thing) for thing in ODD if thing != ([], [])]
-    THINGS += [("barred", "ann", paper) for paper in [
-        ([[]], ["low2"]), ([["low", "low"]], ["low2"]), ([], ["low2", "low2"]), ([["ann"]], ["low2"]), ([], ["nobody"]),
-        [[], ["low2"]], ([], ("low2",)), ((), ["low2"]), ([], ["low2"], []),
-    ]]
 
 
 class ComeWrong(Ways):
